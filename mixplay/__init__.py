@@ -1,0 +1,1 @@
+"""Games in tables, with a paper for every answer."""
