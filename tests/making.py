@@ -1,6 +1,7 @@
 """What several tests need: tables, mixings, and a second reckoning with Python's own fractions."""
 
 import itertools
+import math
 from fractions import Fraction
 
 from mixplay.tables import Table
@@ -70,3 +71,32 @@ def trio():
     for play in plays_of([2, 1, 3]):
         cells[play] = whole(100 * play[0] + play[2], 10 * play[2] - play[0], play[0] * play[2])
     return Table([2, 1, 3], cells)
+
+
+def is_fraction(value):
+    """Whether a value is a fraction as the program tells them: a tuple in lowest terms, bottom from 1 on."""
+    if type(value) is not tuple or [type(part) for part in value] != [int, int]:
+        return False
+    return value[1] >= 1 and math.gcd(value[0], value[1]) == 1
+
+
+def drawn_rows(many, wide, chance, top=9, bottom=1, least=None):
+    """Rows of fractions with tops from least (else -top) to top and bottoms from 1 to bottom."""
+    least = -top if least is None else least
+    rows = []
+    for row in range(many):
+        rows.append([told(Fraction(chance.randint(least, top), chance.randint(1, bottom))) for place in range(wide)])
+    return rows
+
+
+def products(one, other):
+    """The sum of the products of two lists of Python's own fractions."""
+    return sum((mine * yours for mine, yours in zip(one, other) if mine and yours), Fraction(0))
+
+
+def meant_row(row):
+    return [meant(fraction) for fraction in row]
+
+
+def column_of(rows, place):
+    return [row[place] for row in rows]
