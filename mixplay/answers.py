@@ -2,7 +2,7 @@
 
 from mixplay.errors import NoMixing
 from mixplay.ratios import below, greatest, minus, plus, summed, times
-from mixplay.tables import joined, rests
+from mixplay.tables import earned_with, rests
 
 
 def is_mixing(weights, many):
@@ -40,8 +40,7 @@ def earned_by(table, mixings):
 def answer(table, others, hand, choice):
     total = (0, 1)
     for rest in rests(table, hand):
-        earned = table.earned(joined(rest, hand, choice))[hand]
-        total = plus(total, times(chance(rest, others), earned))
+        total = plus(total, times(chance(rest, others), earned_with(table, rest, hand, choice)))
     return total
 
 

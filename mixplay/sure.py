@@ -1,7 +1,7 @@
 """Sure points: the plays from which no hand goes off alone."""
 
 from mixplay.ratios import below, greatest
-from mixplay.tables import joined, rest_of
+from mixplay.tables import earned_with, rest_of
 
 
 def going_off(table, play):
@@ -9,7 +9,7 @@ def going_off(table, play):
     earned = table.earned(play)
     for hand, size in enumerate(table.sizes()):
         rest = rest_of(play, hand)
-        choices = [table.earned(joined(rest, hand, choice))[hand] for choice in range(size)]
+        choices = [earned_with(table, rest, hand, choice) for choice in range(size)]
         most = greatest(choices)
         if below(earned[hand], most):
             return (hand, choices.index(most))

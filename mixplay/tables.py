@@ -3,14 +3,18 @@
 from mixplay.errors import NoChoice, NoTable
 
 
-def in_order(sizes):
+def one_of_each(lists):
     told = [()]
-    for size in sizes:
+    for choices in lists:
         longer = []
         for begun in told:
-            longer.extend([begun + (choice,) for choice in range(size)])
+            longer.extend([begun + (choice,) for choice in choices])
         told = longer
     return told
+
+
+def in_order(sizes):
+    return one_of_each([list(range(size)) for size in sizes])
 
 
 def check_sizes(sizes):
@@ -67,3 +71,11 @@ def joined(rest, hand, choice):
 def rests(table, hand):
     sizes = table.sizes()
     return in_order(sizes[:hand] + sizes[hand + 1:])
+
+
+def earned_with(table, rest, hand, choice):
+    return table.earned(joined(rest, hand, choice))[hand]
+
+
+def earnings(table, hand, choice, others):
+    return [earned_with(table, rest, hand, choice) for rest in others]

@@ -100,3 +100,82 @@ def meant_row(row):
 
 def column_of(rows, place):
     return [row[place] for row in rows]
+
+
+def few_table(sizes, chance, least=-2, most=2):
+    """A table of few earnings, so that many are alike."""
+    return Table(sizes, {play: whole(*[chance.randint(least, most) for size in sizes]) for play in plays_of(sizes)})
+
+
+def losing_table(rows):
+    """The first hand earns these fractions, and the second 0 less what the first earns."""
+    cells = {}
+    for play in plays_of([len(rows), len(rows[0])]):
+        earned = rows[play[0]][play[1]]
+        cells[play] = [earned, (-earned[0], earned[1])]
+    return Table([len(rows), len(rows[0])], cells)
+
+
+def two_hands(rows):
+    """A table of two hands from rows of pairs of whole numbers."""
+    return Table([len(rows), len(rows[0])], {
+        (choice, other): whole(*rows[choice][other]) for choice, other in plays_of([len(rows), len(rows[0])])})
+
+
+def alone(earnings):
+    """A table where only the first hand has choices, with these earnings."""
+    return Table([len(earnings), 1], {(choice, 0): whole(earned, 0) for choice, earned in enumerate(earnings)})
+
+
+def dilemma():
+    """Both earn more by their choice 1, whatever the other takes."""
+    return two_hands([[(2, 2), (0, 3)], [(3, 0), (1, 1)]])
+
+
+def behind():
+    """Choice 2 of the second hand is beaten; behind it the first's choice 1, and behind that the second's choice 0."""
+    return two_hands([[(1, 0), (1, 2), (0, 1)], [(0, 3), (0, 1), (2, 0)]])
+
+
+def daring():
+    """Who dares alone earns most, and both lose most where both dare."""
+    return two_hands([[(6, 6), (2, 7)], [(7, 2), (0, 0)]])
+
+
+def drawn_kept(sizes, chance):
+    """For each hand some of its choices, one at least, rising."""
+    return [sorted(chance.sample(range(size), chance.randint(1, size))) for size in sizes]
+
+
+def drawn_goal(sizes, chance):
+    return [told(Fraction(chance.randint(-6, 6), chance.randint(1, 4))) for size in sizes]
+
+
+def fits(play, kept):
+    """Whether each choice of a play, or of a rest, is a kept one."""
+    return all(choice in choices for choice, choices in zip(play, kept))
+
+
+def changed(play, hand, choice):
+    return play[:hand] + (choice,) + play[hand + 1:]
+
+
+def taken(sizes, kept):
+    """The pairs (hand, choice) that are not kept."""
+    return [(hand, choice) for hand, size in enumerate(sizes) for choice in range(size) if choice not in kept[hand]]
+
+
+def spoil(value):
+    """Changes every list and dict within a told value."""
+    if isinstance(value, (list, tuple)):
+        for part in value:
+            spoil(part)
+    if isinstance(value, dict):
+        for part in value.values():
+            spoil(part)
+        value[(0, 0)] = (77, 1)
+        value["more"] = []
+    if isinstance(value, list):
+        value.reverse()
+        value.append((77, 1))
+        value[0] = (78, 1)

@@ -2,13 +2,13 @@
 
 import copy
 import random
-import signal
 import unittest
 from fractions import Fraction
 
-from making import column_of, drawn, drawn_rows, is_fraction, meant, meant_row, products, told, whole
+from making import column_of, drawn, drawn_rows, meant, meant_row, products, told, whole
 from mixplay.errors import NoStart, PlayError
 from mixplay.steps import best
+from papers import Papers
 
 
 def units(many):
@@ -19,24 +19,11 @@ def halves(*numbers):
     return [told(Fraction(number, 2)) for number in numbers]
 
 
-class Papers(unittest.TestCase):
-    # Steps that go round would otherwise never let the tests end.
-    def setUp(self):
-        self.before = signal.signal(signal.SIGALRM, self.too_long)
-        signal.alarm(120)
-
-    def tearDown(self):
-        signal.alarm(0)
-        signal.signal(signal.SIGALRM, self.before)
-
-    def too_long(self, number, frame):
-        raise AssertionError("the steps don't end")
-
-    def assert_weights(self, weights, many):
+class Steps(Papers):
+    def assert_list(self, weights, many):
         self.assertIs(type(weights), list)
         self.assertEqual(len(weights), many)
-        self.assertTrue(all(is_fraction(weight) for weight in weights))
-        self.assertTrue(all(weight[0] >= 0 for weight in weights))
+        self.assert_weights(weights)
 
     def assert_allowed(self, rows, bounds, xs):
         for row, bound in zip(rows, bounds):
@@ -60,8 +47,8 @@ class Papers(unittest.TestCase):
         self.assertIs(type(found), tuple)
         text, xs, others = found
         self.assertIn(text, ("best", "endless"))
-        self.assert_weights(xs, len(goal))
-        self.assert_weights(others, len(rows) if text == "best" else len(goal))
+        self.assert_list(xs, len(goal))
+        self.assert_list(others, len(rows) if text == "best" else len(goal))
         meant_rows, aims, limits = [meant_row(row) for row in rows], meant_row(goal), meant_row(bounds)
         self.assert_allowed(meant_rows, limits, meant_row(xs))
         if text == "best":
@@ -76,7 +63,7 @@ class Papers(unittest.TestCase):
         return told(products(meant_row(goal), meant_row(best(rows, bounds, goal)[1])))
 
 
-class Known(Papers):
+class Known(Steps):
     def test_one_row_and_one_column(self):
         self.assertEqual(best([whole(2)], whole(3), whole(5)), ("best", [(3, 2)], [(5, 2)]))
         self.assertEqual(best([whole(2)], whole(3), whole(0))[0], "best")
@@ -136,7 +123,7 @@ class Known(Papers):
         self.assertEqual(best([[], []], whole(0, 1), []), ("best", [], whole(0, 0)))
 
 
-class Ending(Papers):
+class Ending(Steps):
     """Rows, bounds and goals at which steps that take the rows carelessly go round for ever, or very long."""
 
     def test_where_the_topmost_of_the_least_bounds_goes_round(self):
@@ -211,7 +198,7 @@ class Ending(Papers):
         self.assertEqual(self.paper(rows, [(1, 1)] * len(rows), drawn_rows(1, many * many, chance, 9)[0]), "best")
 
 
-class Drawn(Papers):
+class Drawn(Steps):
     def test_small_ones(self):
         chance = random.Random(16)
         seen = {"best": 0, "endless": 0}
@@ -267,7 +254,7 @@ class Drawn(Papers):
         self.assertTrue(xs[0] + xs[1] * great / 7 == ys[0] / great + ys[1] * great)
 
 
-class Greatest(Papers):
+class Greatest(Steps):
     def test_hundred_rows_of_numbers_above_nothing(self):
         chance = random.Random(17)
         rows = drawn_rows(100, 220, chance, 9, 1, 0)
@@ -294,7 +281,7 @@ class Greatest(Papers):
         self.assertEqual(self.most(wide, whole(6), whole(*range(241, 1, -1))), (1446, 1))
 
 
-class Refused(Papers):
+class Refused(Steps):
     def refused(self, rows, bounds, goal):
         handed = copy.deepcopy((rows, bounds, goal))
         with self.assertRaises(NoStart):
@@ -330,7 +317,7 @@ class Refused(Papers):
         self.assertEqual(self.paper([whole(1, 0), whole(0, 1)], whole(0, 0), whole(1, 1)), "best")
 
 
-class Owned(Papers):
+class Owned(Steps):
     asked = (
         ([whole(1, 0), whole(0, 2), whole(3, 2)], whole(4, 12, 18), whole(3, 5)),
         ([whole(1, -1), whole(-2, 1)], whole(1, 1), whole(1, 0)),

@@ -3,18 +3,10 @@
 import random
 import unittest
 
-from making import drawn_table, meant, pennies, plays_of, trio, whole
+from making import alone, dilemma, drawn_table, meant, pennies, plays_of, trio, whole
 from mixplay.errors import NoChoice
 from mixplay.sure import going_off, sure_points
 from mixplay.tables import Table
-
-
-def dilemma():
-    """Both earn more by their choice 1, whatever the other takes."""
-    return Table([2, 2], {
-        (0, 0): whole(2, 2), (0, 1): whole(0, 3),
-        (1, 0): whole(3, 0), (1, 1): whole(1, 1),
-    })
 
 
 def meeting():
@@ -23,11 +15,6 @@ def meeting():
     cells[(0, 0)] = whole(1, 2)
     cells[(1, 1)] = whole(2, 1)
     return Table([3, 3], cells)
-
-
-def alone(earnings):
-    """A table where only the first hand has choices, with these earnings."""
-    return Table([len(earnings), 1], {(choice, 0): whole(earned, 0) for choice, earned in enumerate(earnings)})
 
 
 class GoingOff(unittest.TestCase):

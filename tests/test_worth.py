@@ -6,16 +6,10 @@ import unittest
 
 from making import column_of, drawn, drawn_rows, is_fraction, meant, meant_row, products, pure, whole
 from mixplay.worth import worth
+from papers import Papers
 
 
-class Papers(unittest.TestCase):
-    def assert_mixing(self, mixing, many):
-        self.assertIs(type(mixing), list)
-        self.assertEqual(len(mixing), many)
-        self.assertTrue(all(is_fraction(chance) for chance in mixing))
-        self.assertTrue(all(chance[0] >= 0 for chance in mixing))
-        self.assertEqual(sum(meant_row(mixing)), 1)
-
+class Worths(Papers):
     def paper(self, rows):
         """Asks, checks what was told by point 16 alone, and gives the worth back."""
         handed = copy.deepcopy(rows)
@@ -35,7 +29,7 @@ class Papers(unittest.TestCase):
         return told
 
 
-class Known(Papers):
+class Known(Worths):
     def test_pennies(self):
         self.assertEqual(worth([whole(1, -1), whole(-1, 1)]), ((0, 1), [(1, 2)] * 2, [(1, 2)] * 2))
 
@@ -91,7 +85,7 @@ class Known(Papers):
             self.assertEqual(self.paper(raised), (1 + more, 1))
 
 
-class Drawn(Papers):
+class Drawn(Worths):
     def test_small_ones(self):
         chance = random.Random(18)
         for time in range(400):
