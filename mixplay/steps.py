@@ -7,11 +7,18 @@ column in and another one out. One more row stands for the goal, with a column t
 Of the rows at a corner only the spares' columns, the goal's own and the bound's are kept: by them
 the numbers of any other column are its products at the start. All numbers stand over one bottom,
 the goal's number in its own column.
+
+Where numbers are long, the steps are taken with rounded ones first. The corner where they end is
+mostly the last one of the true numbers, too, and these come to it in few steps. Nothing is told by
+rounded numbers: whether a corner is allowed and the last one is asked of the true ones.
 """
 
 from mixplay.errors import NoStart
 from mixplay.ratios import below, over, ratio, times
 from mixplay.rows import cleared, leaving, plain, products, shared
+
+# So many bits tell corners apart mostly; where they don't, more are tried.
+BITS = 40
 
 
 # Plain, so that numbers stay short; with the fraction that made it so, by which answers find back.
@@ -32,13 +39,44 @@ def span(column):
     return 1 + sum([abs(number) for number in column])
 
 
+def longest(row):
+    return max([number.bit_length() for number in row])
+
+
+def bits_beyond(column, longs):
+    return max([number.bit_length() - long for number, long in zip(column, longs) if number != 0], default=0)
+
+
+# Numbers that are alike but for the sign stay so.
+def stretched(number, bits):
+    if number < 0:
+        return -stretched(-number, bits)
+    return number << bits if bits > 0 else number >> -bits
+
+
+def shortened(row, bits, wides):
+    return [stretched(number, bits - wide) for number, wide in zip(row, wides)]
+
+
+# To stretch a row or a column changes no corner, so that each may keep bits of its own. The bounds are no measure
+# for their rows: some of them may be 0, and others long.
+def rounded(lists, bits):
+    longs = [longest(row[:-1]) for row in lists]
+    wides = [bits_beyond(column_of(lists, place), longs) for place in range(len(lists[0]))]
+    return [shortened(row, bits - long, wides) for row, long in zip(lists, longs)]
+
+
+def turned_round(row):
+    return [-number for number in row]
+
+
 class Corner:
-    def __init__(self, rows, bounds, goal):
-        columns = [column_of(rows, place) for place in range(len(goal))]
-        self.begun = [column + [-aim] for column, aim in zip(columns, goal)]
-        self.spans = [span(column) for column in columns] + [span([1]) for row in rows]
-        self.kept = [unit(len(rows) + 1, place) + [bound] for place, bound in enumerate(bounds + [0])]
-        self.inside = [len(goal) + place for place in range(len(rows))]
+    # The rows have their bounds last; the last of them is the goal's, turned round, and with no bound.
+    def __init__(self, lists):
+        self.begun = [column_of(lists, place) for place in range(len(lists[0]) - 1)]
+        self.spans = [span(column[:-1]) for column in self.begun] + [span([1]) for row in lists[:-1]]
+        self.kept = [unit(len(lists), place) + [row[-1]] for place, row in enumerate(lists)]
+        self.inside = [len(self.begun) + place for place in range(len(lists) - 1)]
 
     def bottom(self):
         return self.kept[-1][-2]
@@ -77,6 +115,27 @@ class Corner:
         self.kept = moved
         self.inside[at] = column
 
+    # What a bound leaves may be below 0 on the way, so that any row may be left whose spare is to go out.
+    def comes_to(self, inside):
+        first = len(self.begun)
+        free = [place for place in range(len(inside)) if first + place not in inside]
+        for column in [one for one in inside if one < first]:
+            numbers = self.numbers(column)
+            places = [place for place in free if numbers[place] != 0]
+            if not places:
+                return False
+            self.step_in(column, numbers, places[0])
+            free.remove(places[0])
+        if self.bottom() < 0:
+            self.kept = [turned_round(row) for row in self.kept]
+        return min(column_of(self.kept[:-1], -1)) >= 0
+
+    def ends_with(self, column):
+        if column is None:
+            return self.entering() is None
+        numbers = self.numbers(column)
+        return numbers[-1] < 0 and self.leaving_by(numbers) is None
+
     # What is outside has nothing, and what spares have isn't told.
     def spread(self, numbers):
         told = [(0, 1) for column in self.begun]
@@ -98,7 +157,7 @@ class Corner:
         return told
 
 
-# At the last corner either no column enters, or no row stops the one that does.
+# At the last corner either no column enters, or no row stops the one that does: that column is told.
 def unstopped(corner):
     column = corner.entering()
     while column is not None:
@@ -111,6 +170,20 @@ def unstopped(corner):
     return None
 
 
+def last_corner(lists):
+    bits = BITS
+    while bits < max([longest(row) for row in lists]):
+        guess = Corner(rounded(lists, bits))
+        column = unstopped(guess)
+        corner = Corner(lists)
+        if corner.comes_to(guess.inside) and corner.ends_with(column):
+            return (corner, column)
+        bits = 2 * bits
+    corner = Corner(lists)
+    column = unstopped(corner)
+    return (corner, column)
+
+
 def best(rows, bounds, goal):
     for bound in bounds:
         if below(bound, (0, 1)):
@@ -118,9 +191,9 @@ def best(rows, bounds, goal):
     made = [whole(row) for row in rows]
     limits = whole([times(bound, row[0]) for bound, row in zip(bounds, made)])
     aims = whole(goal)
-    corner = Corner([row[1] for row in made], limits[1], aims[1])
-    column = unstopped(corner)
-    xs = [over(x, limits[0]) for x in corner.xs()]
-    if column is not None:
-        return ("endless", xs, corner.ways(column))
-    return ("best", xs, [over(times(y, row[0]), aims[0]) for y, row in zip(corner.ys(), made)])
+    lists = [row[1] + [limit] for row, limit in zip(made, limits[1])]
+    ended = last_corner(lists + [turned_round(aims[1]) + [0]])
+    xs = [over(x, limits[0]) for x in ended[0].xs()]
+    if ended[1] is not None:
+        return ("endless", xs, ended[0].ways(ended[1]))
+    return ("best", xs, [over(times(y, row[0]), aims[0]) for y, row in zip(ended[0].ys(), made)])

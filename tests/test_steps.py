@@ -3,11 +3,12 @@
 import copy
 import random
 import unittest
+import unittest.mock
 from fractions import Fraction
 
 from making import column_of, drawn, drawn_rows, meant, meant_row, products, told, whole
 from mixplay.errors import NoStart, PlayError
-from mixplay.steps import best
+from mixplay.steps import Corner, best, longest
 from papers import Papers
 
 
@@ -252,6 +253,128 @@ class Drawn(Steps):
         for place, aim in enumerate([Fraction(1), Fraction(great, 7)]):
             self.assertTrue(products(meant_row(column_of(rows, place)), ys) >= aim)
         self.assertTrue(xs[0] + xs[1] * great / 7 == ys[0] / great + ys[1] * great)
+
+
+def mingled(lists, many, chance):
+    """So many sums of lists of whole numbers, each list taken up to three times."""
+    told = []
+    for time in range(many):
+        parts = [chance.randint(0, 3) for one in lists]
+        parts[chance.randrange(len(lists))] += 1
+        told.append([sum(part * number for part, number in zip(parts, column)) for column in zip(*lists)])
+    return told
+
+
+class Long(Steps):
+    """Long numbers, where a corner that is right by their first figures need not be right."""
+
+    def test_told_apart_by_the_last_figure(self):
+        for great in (10 ** 20, 10 ** 100, 10 ** 1000):
+            self.assertEqual(best([whole(great), whole(great + 1)], whole(1, 1), whole(1)),
+                             ("best", [(1, great + 1)], whole(0) + [(1, great + 1)]))
+            self.assertEqual(best([whole(great + 1), whole(great)], whole(1, 1), whole(1)),
+                             ("best", [(1, great + 1)], [(1, great + 1)] + whole(0)))
+            for aims in ((great, great + 1), (great + 1, great)):
+                self.assertEqual(best([whole(1, 1)], whole(1), whole(*aims)),
+                                 ("best", whole(*[aim - great for aim in aims]), whole(great + 1)))
+
+    def test_without_end_by_the_last_figure(self):
+        for great in (10 ** 20, 10 ** 100, 10 ** 1000):
+            aims = whole(1, 1)
+            self.assertEqual(self.paper([whole(great, -great), whole(-great - 1, great)], whole(1, 1), aims), "endless")
+            self.assertEqual(self.paper([whole(great, -great + 1), whole(-great, great)], whole(1, 1), aims), "best")
+            self.assertEqual(self.paper([whole(great, -great), whole(-great, great)], whole(1, 1), aims), "endless")
+
+    def test_rows_that_are_sums_of_others(self):
+        chance = random.Random(16)
+        for time in range(400):
+            base, wide = chance.randint(1, 3), chance.randint(2, 5)
+            lists = [[chance.randint(1, 10 ** 15) for place in range(wide + 1)] for row in range(base)]
+            rows = mingled(lists, chance.randint(base + 1, 6), chance)
+            aims = whole(*[sum(column) for column in zip(*lists)][:-1])
+            self.assertEqual(self.paper([whole(*row[:-1]) for row in rows], whole(*column_of(rows, -1)), aims), "best")
+
+    def test_columns_that_are_sums_of_others(self):
+        chance = random.Random(16)
+        seen = set()
+        for time in range(150):
+            many, great = chance.randint(2, 6), 10 ** chance.choice((15, 30))
+            lists = [[chance.randint(-great, great) for row in range(many + 1)] for column in range(chance.randint(1, 3))]
+            columns = mingled(lists, chance.randint(2, 7), chance)
+            bounds = whole(*[chance.choice((0, 1, chance.randint(0, great))) for row in range(many)])
+            rows = [whole(*column_of(columns, place)) for place in range(many + 1)]
+            seen.add(self.paper(rows[:-1], bounds, rows[-1]))
+        self.assertEqual(seen, {"best", "endless"})
+
+    def test_alike_but_for_a_last_figure(self):
+        chance = random.Random(16)
+        seen = set()
+        for time in range(150):
+            many, wide, great = chance.randint(1, 6), chance.randint(1, 6), 10 ** chance.choice((15, 40))
+            rows = [whole(*[chance.randint(-3, 3) * great + chance.randint(0, 1) for place in range(wide)])
+                    for row in range(many + 1)]
+            bounds = whole(*[chance.randint(0, 2) * great for row in range(many)])
+            seen.add(self.paper(rows[:-1], bounds, rows[-1]))
+        self.assertEqual(seen, {"best", "endless"})
+
+    def test_long_and_short_bottoms(self):
+        chance = random.Random(16)
+        seen = set()
+        for time in range(150):
+            many, wide, great = chance.randint(1, 6), chance.randint(1, 6), 10 ** chance.choice((15, 40)) + 1
+            rows = [[told(Fraction(chance.randint(-4, 4), chance.choice((1, 3, 7, great)))) for place in range(wide)]
+                    for row in range(many + 1)]
+            bounds = [told(Fraction(chance.randint(0, 4), chance.choice((1, 5, great)))) for row in range(many)]
+            seen.add(self.paper(rows[:-1], bounds, rows[-1]))
+        self.assertEqual(seen, {"best", "endless"})
+
+    def test_rows_of_nothing_with_a_long_bound(self):
+        great = 10 ** 60
+        self.assertEqual(self.most([whole(0, 0), whole(1, 2)], [(great, 1), (great, 7)], whole(great, 1)),
+                         told(Fraction(great * great, 7)))
+        self.assertEqual(self.paper([whole(0, 0)], [(great, 1)], whole(great, 1)), "endless")
+        self.assertEqual(self.paper([whole(0, 0)], [(great, 1)], whole(0, 0)), "best")
+
+    def test_a_goal_that_is_a_sum_of_rows(self):
+        # By the way (1, 1, 1) no row comes to more than 0, nor does a goal, but by fewer figures it would.
+        chance = random.Random(16)
+        for time in range(60):
+            rows = []
+            for row in range(2):
+                one, other = [chance.randint(-10 ** 30, 10 ** 30) for place in range(2)]
+                rows.append([one, other, -one - other])
+            for less in (0, 1):
+                aims = whole(*[sum(column) - less for column in zip(*rows)])
+                self.assertEqual(self.paper([whole(*row) for row in rows], whole(1, 1), aims), "best")
+
+    def test_long_numbers_take_few_steps(self):
+        chance = random.Random(16)
+        taken = []
+
+        def step_in(corner, column, numbers, at):
+            if max(longest(begun) for begun in corner.begun) > 100:
+                taken.append(column)
+            true_step(corner, column, numbers, at)
+
+        true_step = Corner.step_in
+        for time in range(10):
+            rows = [[drawn(chance, 60) for place in range(12)] for row in range(12)] + [[(1, 1)] * 12]
+            aims = [drawn(chance, 60) for place in range(12)]
+            taken.clear()
+            with unittest.mock.patch.object(Corner, "step_in", step_in):
+                found = best(rows, [(1, 1)] * 13, aims)
+            # One for each of the goal's columns that is inside at the end, and none to and fro.
+            self.assertEqual(found[0], "best")
+            self.assertEqual(len(taken), len([x for x in found[1] if x != (0, 1)]))
+
+    def test_many_rows_of_long_fractions(self):
+        chance = random.Random(16)
+        seen = set()
+        for many, wide in ((25, 25), (15, 30)):
+            rows = [[drawn(chance, 8) for place in range(wide)] for row in range(many)]
+            bounds = [told(abs(meant(drawn(chance, 8)))) for row in range(many)]
+            seen.add(self.paper(rows, bounds, [(1, 1)] * wide))
+        self.assertEqual(seen, {"best", "endless"})
 
 
 class Greatest(Steps):
